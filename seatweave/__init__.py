@@ -1,0 +1,1 @@
+"""Seatweave: seats dealt to places and to parties at once."""

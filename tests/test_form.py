@@ -1,9 +1,9 @@
 """The part of Python that the package keeps to.
 
 Each check bears the number of the rule it stands for. Some are narrower than
-their rule, where the package needs no more: no annotation, no set, no docstring
-but a file's own. Not checked: L15 on lists and dicts of a file's top, L18 on
-classes handed on, L23 on changing what is walked, and what L19 says of single calls.
+their rule, where the package needs no more: no annotation, no set, no lambda, no
+docstring but a file's own, no list or dict at a file's top, no method with two
+underscores but __init__, of Python's errors only those taken that L19 leaves free.
 """
 
 import ast
@@ -28,7 +28,9 @@ METHODS = (
     " isupper items join keys ljust lower lstrip partition pop remove replace reverse rfind rjust rpartition"
     " rsplit rstrip setdefault split splitlines startswith strip update upper values zfill bit_length"
 ).split()
-DOUBLE = "__init__ __eq__ __repr__ __str__ __len__".split()
+DOUBLE = ["__init__"]
+FREE_ERRORS = "KeyError ZeroDivisionError StopIteration".split()
+CHANGES = "append clear extend insert pop remove reverse setdefault update".split()
 NOT_NAMES = (
     "attrgetter breakpoint builtins compile copyright credits delattr dir eval exec exit gc getattr globals"
     " hasattr help id importlib license locals methodcaller os quit setattr super type vars sys __name__"
@@ -54,7 +56,7 @@ WALKED_METHODS = ("items", "keys", "values")
 WALKERS = "list tuple dict sorted sum any all enumerate zip".split()
 NODES = tuple(getattr(ast, name) for name in (
     "Module FunctionDef ClassDef Return Assign AugAssign For While If Raise Try ExceptHandler ImportFrom Expr"
-    " Pass Break Continue BoolOp BinOp UnaryOp Lambda IfExp Dict ListComp comprehension Compare Call JoinedStr"
+    " Pass Break Continue BoolOp BinOp UnaryOp IfExp Dict ListComp comprehension Compare Call JoinedStr"
     " FormattedValue Constant Attribute Subscript Name List Tuple Slice keyword arguments arg alias"
     " expr_context operator unaryop boolop cmpop"
 ).split())
@@ -153,6 +155,8 @@ class Form:
             if isinstance(node, ast.Assign):
                 if not (isinstance(node.targets[0], ast.Name) and is_plain(node.value, known)):
                     self.fault("L3", node)
+                if any(isinstance(part, (ast.List, ast.Dict)) for part in ast.walk(node.value)):
+                    self.fault("L15", node)
             elif not isinstance(node, (ast.FunctionDef, ast.ClassDef, ast.ImportFrom)):
                 if not (place == 0 and is_docstring(node)):
                     self.fault("L3", node)
@@ -190,6 +194,19 @@ class Form:
             self.fault("L8", node)
         elif node.id in OWN_NAMES and node.id not in ERRORS:
             self.check_own_name(node)
+        elif re.match(r"[A-Z][a-z]", node.id):
+            self.check_class_name(node)
+
+    def check_class_name(self, node):
+        above = self.parents[node]
+        if isinstance(above, ast.Attribute) and above.attr == "__init__":
+            return
+        while isinstance(above, ast.Tuple):
+            above = self.parents[above]
+        called = isinstance(above, ast.Call) and above.func is node
+        asked = isinstance(above, ast.Call) and isinstance(above.func, ast.Name) and above.func.id == "isinstance"
+        if not (called or asked or isinstance(above, (ast.ClassDef, ast.ExceptHandler))):
+            self.fault("L18", node)
 
     def check_own_name(self, node):
         above = self.parents[node]
@@ -231,8 +248,6 @@ class Form:
         for part in ast.walk(node):
             if node.name == "__init__" and isinstance(part, ast.Return) and part.value is not None:
                 self.fault("L28", part)
-            if node.name in DOUBLE[1:] and isinstance(part, (ast.Assign, ast.AugAssign)):
-                self.fault("L28", part)
 
     def check_arguments(self, node):
         if node.vararg or node.kwarg or node.kwonlyargs or node.posonlyargs:
@@ -269,11 +284,29 @@ class Form:
         if not isinstance(node.value, ast.Call) and not (node is self.tree.body[0] and is_docstring(node)):
             self.fault("L6", node)
 
-    def check_For(self, node):
+    def check_While(self, node):
         if node.orelse:
             self.fault("L6", node)
 
-    check_While = check_For
+    def check_For(self, node):
+        self.check_While(node)
+        walked = [ast.dump(part) for part in self.walked_parts(node.iter)]
+        for part in ast.walk(ast.Module(body=node.body, type_ignores=[])):
+            if isinstance(part, ast.Call) and isinstance(part.func, ast.Attribute) and part.func.attr in CHANGES:
+                if ast.dump(part.func.value) in walked:
+                    self.fault("L23", part)
+            if isinstance(part, ast.Subscript) and isinstance(part.ctx, ast.Store):
+                if ast.dump(part.value) in walked:
+                    self.fault("L23", part)
+            if isinstance(part, ast.AugAssign) and ast.dump(part.target).replace("Store", "Load") in walked:
+                self.fault("L23", part)
+
+    def walked_parts(self, node):
+        if isinstance(node, ast.Call) and isinstance(node.func, ast.Name) and node.func.id in WALKED:
+            return [part for arg in node.args for part in self.walked_parts(arg)]
+        if isinstance(node, ast.Call) and isinstance(node.func, ast.Attribute) and node.func.attr in WALKED_METHODS:
+            return [node.func.value]
+        return [node]
 
     def check_Try(self, node):
         if node.finalbody or not node.handlers:
@@ -281,7 +314,7 @@ class Form:
 
     def check_ExceptHandler(self, node):
         names = [part.id for part in ast.walk(node.type) if isinstance(part, ast.Name)] if node.type else []
-        if not names or "Exception" in names or "TypeError" in names:
+        if not names or any(name in ERRORS and name not in FREE_ERRORS for name in names):
             self.fault("L19", node)
         if node.name is not None:
             self.check_bound(node.name, node)
@@ -329,6 +362,9 @@ class Form:
         self.check_name(node.attr, node)
         if node.attr in NOT_VALUES:
             self.fault("L17", node)
+        above = self.parents[node]
+        if node.attr in METHODS + self.methods and not (isinstance(above, ast.Call) and above.func is node):
+            self.fault("L25", node)
         if isinstance(node.ctx, ast.Store):
             python_has = any(hasattr(kind, node.attr) for kind in PYTHON_VALUES)
             if node.attr in NOT_FIELDS or (python_has and node.attr not in FREE_FIELDS):
@@ -454,6 +490,16 @@ class FormItself(unittest.TestCase):
             ("L21", "def f(a: int):\n    return a\n"), ("L22", "def f(a):\n    return [len, a]\n"),
             ("L23", "def f(a):\n    b = range(a)\n    return b\n"), ("L25", "def f(a):\n    return a.sort()\n"),
             ("L26", "def f(a):\n    a.args = 1\n"), ("L27", "def f(a):\n    return 2 ** a\n"),
+            ("L3", "A = []\nB = {A: 1}\n"), ("L15", "A = [1]\n"), ("L15", "A = ({1: 2}, 3)\n"),
+            ("L12", "class A:\n    def __call__(self):\n        pass\n"),
+            ("L18", "class Some:\n    pass\n\n\ndef f():\n    return [Some]\n"),
+            ("L18", "class Some:\n    pass\n\n\ndef f():\n    Some.a = 1\n"),
+            ("L19", "def f(a):\n    try:\n        f(a)\n    except ValueError:\n        pass\n"),
+            ("L23", "def f(a):\n    for b in a:\n        a.append(b)\n"),
+            ("L23", "def f(a):\n    for b, c in enumerate(a.x):\n        a.x[b] += 1\n"),
+            ("L23", "def f(a):\n    for b, c in zip(a, list(a)):\n        a += [b]\n"),
+            ("L23", "def f(a):\n    for b, c in a.items():\n        a[c] = b\n"),
+            ("L25", "def f(a):\n    return a.append\n"), ("L6 or L7", "def f():\n    return lambda a: a\n"),
             ("L27", "A = 'a%b'\n"), ("L28", "class A:\n    def __init__(self):\n        return None\n"),
         ):
             with self.subTest(rule=rule, source=source):
